@@ -3,6 +3,7 @@ package member_test
 import (
 	"math"
 	"math/rand"
+	"strconv"
 	"testing"
 
 	"casuist/api"
@@ -102,7 +103,7 @@ func TestW1NoTypesDeep(t *testing.T) {
 
 // A function that takes fewer than none, or more than any answer can tell, is of a type all the same.
 func TestW1FunctionsOfAnyNumber(t *testing.T) {
-	for _, takes := range []int{-1, -2, -1 << 40, 1 << 31, 1 << 40, 1 << 58, math.MinInt, math.MaxInt, math.MaxInt - 1} {
+	for _, takes := range []int{-1, -2, -1 << 40, (1<<31 - 1) / 56, 1 << 26, 1 << 31, 1 << 40, 1 << 58, math.MinInt, math.MaxInt, math.MaxInt - 1} {
 		f := value.Func(nil, takes)
 		for _, v := range []value.Value{f, value.List(f, f), value.List(f, value.Func(nil, 1)), value.Context([]string{"a"}, []value.Value{f})} {
 			own := member.Of(v)
@@ -114,6 +115,37 @@ func TestW1FunctionsOfAnyNumber(t *testing.T) {
 			member.Is(f, u)
 			member.Instance(f, u)
 		}
+	}
+}
+
+// Functions that all together take more than an answer can tell leave a type all the same, and no memory is taken for what is not told.
+func TestW1ManyFunctionsOfMany(t *testing.T) {
+	for _, takes := range []int{1 << 23, 1 << 25, 1 << 50, 1 << 62, math.MaxInt} {
+		var names []string
+		var items []value.Value
+		for i := range 100 {
+			names, items = append(names, strconv.Itoa(i)), append(items, value.List(value.Func(nil, takes)))
+		}
+		for _, most := range []int{5, 6, 100} {
+			v := value.Context(names[:most], items[:most])
+			if own := member.Of(v); !same(own, of(api.Any)) {
+				t.Errorf("of %d functions that take %d: kind %d with %d items", most, takes, own.Kind, len(own.Items))
+			}
+		}
+	}
+	// One more than there is room for, at once or all together.
+	const most = (1<<31 - 1) / 56
+	first := value.Func(nil, most-1)
+	for _, v := range []value.Value{value.Func(nil, most), value.List(value.Func(nil, most)), value.Context([]string{"a", "b"}, []value.Value{first, value.Func(nil, 0)}), value.Context([]string{"a", "b"}, []value.Value{value.Func(nil, 0), first})} {
+		if own := member.Of(v); !same(own, of(api.Any)) {
+			t.Errorf("of too many: kind %d with %d items", own.Kind, len(own.Items))
+		}
+	}
+	const few = 1 << 16
+	f := value.Func(nil, few)
+	v := value.Context([]string{"a", "b", "c"}, []value.Value{f, value.List(f, f), f})
+	if own := member.Of(v); !same(own, contextOf("a b c", taking(few), listOf(taking(few)), taking(few))) {
+		t.Errorf("of three functions that take %d: kind %d with %d items", few, own.Kind, len(own.Items))
 	}
 }
 

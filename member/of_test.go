@@ -1,6 +1,7 @@
 package member_test
 
 import (
+	"math"
 	"math/rand"
 	"slices"
 	"strconv"
@@ -225,6 +226,52 @@ func TestP142OfFunctions(t *testing.T) {
 	checkOf(t, function(deepest), taking(deepest))
 	checkOf(t, list(function(deepest), function(deepest+1)), listOf(any1))
 	checkOf(t, list(function(deepest), function(deepest)), listOf(taking(deepest)))
+}
+
+// The document lets an answer have 2^31 - 1 bytes, and a type is of 56: so many does the greatest function's type have in it.
+func TestP142OfAFunctionOfMost(t *testing.T) {
+	const most = (1<<31 - 1) / 56
+	own := member.Of(value.Func(nil, most-1))
+	if own.Kind != api.Function || len(own.Names) != 0 || len(own.Items) != most {
+		t.Fatalf("Of is of kind %d, with %d items", own.Kind, len(own.Items))
+	}
+	for i, item := range own.Items {
+		if item.Kind != api.Any || len(item.Items) != 0 || len(item.Names) != 0 {
+			t.Fatal("at", i, "stands", show(item))
+		}
+	}
+}
+
+// A function that takes more than any answer may tell is one of its own all the same, where it is joined with others to what has it not.
+func TestP142OfJoinedFunctionsOfMore(t *testing.T) {
+	one, a := number(1), text("a")
+	for _, takes := range []int{1 << 26, 1 << 31, 1 << 40, math.MaxInt} {
+		f, g := function(takes), function(takes-1)
+		pq, qp := context("p q", one, a), context("q p", a, one)
+		for _, x := range []struct {
+			items []thing
+			want  api.Type
+		}{
+			{[]thing{f, g}, anything()},
+			{[]thing{g, f, null()}, anything()},
+			{[]thing{f, f, one}, anything()},
+			{[]thing{f, f, null(), g}, anything()},
+			{[]thing{one, f}, anything()},
+			{[]thing{function(2), f}, anything()},
+			{[]thing{list(f), list(g)}, listOf(anything())},
+			{[]thing{context("f", f), context("g", f)}, contextOf("")},
+			{[]thing{context("f g", f, one), context("g", one)}, contextOf("g", numbers())},
+			// Neither of these contexts conforms to the other one, so that each name's join stands in the first one's order.
+			{[]thing{context("f c", f, pq), context("f c", one, qp)}, contextOf("f c", anything(), contextOf("q p", texts(), numbers()))},
+			{[]thing{context("f c", one, pq), context("f c", f, qp)}, contextOf("f c", anything(), contextOf("q p", texts(), numbers()))},
+			{[]thing{context("f c", f, pq), context("c f", qp, one)}, contextOf("f c", anything(), contextOf("q p", texts(), numbers()))},
+			{[]thing{context("f c", f, pq), context("f c", g, qp)}, contextOf("f c", anything(), contextOf("q p", texts(), numbers()))},
+			{[]thing{context("f c", f, pq), context("c f", qp, f), context("c", qp)}, contextOf("c", contextOf("q p", texts(), numbers()))},
+		} {
+			checkOf(t, list(x.items...), listOf(x.want))
+			checkOf(t, context("a b", list(x.items...), one), contextOf("a b", listOf(x.want), numbers()))
+		}
+	}
 }
 
 func TestP142OfEach(t *testing.T) {

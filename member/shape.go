@@ -1,10 +1,7 @@
 package member
 
 import (
-	"slices"
-
 	"casuist/api"
-	"casuist/kinds"
 	"casuist/value"
 )
 
@@ -16,8 +13,8 @@ type shape struct {
 	items []shape
 }
 
-// most is how many a function takes at most that has a type of its own: 2^25 types are about as many bytes as the document lets an answer have.
-const most = 1 << 25
+// most is for how many types there is room in an answer: a type is of 56 bytes, and beyond 2^31 - 1 of them the document promises nothing.
+const most = (1<<31 - 1) / 56
 
 // shapeOf is the shape of a value.
 func shapeOf(v value.Value) shape {
@@ -47,9 +44,9 @@ func shapes(vs []value.Value) []shape {
 	return out
 }
 
-// functionShape is that of a function that takes so many; Any's, of which each value is, if no type can tell how many.
+// functionShape is that of a function that takes so many; Any's, of which each value is, if it takes fewer than none, which no type tells.
 func functionShape(takes int) shape {
-	if takes < 0 || takes > most {
+	if takes < 0 {
 		return shape{kind: api.Any}
 	}
 	return shape{kind: api.Function, takes: takes}
@@ -131,14 +128,38 @@ func places(names []string) map[string]int {
 	return at
 }
 
+// left is how much room the functions in a shape leave of so much; below 0, if they need more. A few words of a value may tell of functions that take more than any memory holds: all are counted ahead of telling one.
+func left(s shape, room int) int {
+	if s.kind == api.Function {
+		return room - s.takes - 1
+	}
+	for _, item := range s.items {
+		// Two functions may take more than an int holds.
+		if room < 0 {
+			break
+		}
+		room = left(item, room)
+	}
+	return room
+}
+
 // told is a shape as a type.
 func told(s shape) api.Type {
 	if s.kind == api.Function {
-		return api.Type{Kind: s.kind, Items: slices.Repeat([]api.Type{kinds.Of(api.Any)}, s.takes+1)}
+		return functionType(s.takes)
 	}
 	t := api.Type{Kind: s.kind, Names: s.names}
 	for _, item := range s.items {
 		t.Items = append(t.Items, told(item))
+	}
+	return t
+}
+
+// functionType is the type of a function that takes so many, of Any each, and gives Any. Its items are written where they stand, as copies of so many take far longer.
+func functionType(takes int) api.Type {
+	t := api.Type{Kind: api.Function, Items: make([]api.Type, takes+1)}
+	for i := range t.Items {
+		t.Items[i].Kind = api.Any
 	}
 	return t
 }
